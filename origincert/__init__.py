@@ -1,0 +1,1 @@
+"""Certificates of origin: issued, moved, used once."""
