@@ -13,6 +13,18 @@ ARGUMENTS = {
     9: ("account", "choice", "count", "use"),
     10: ("account", "account", "number", "number"),
     11: ("offer",),
+    12: ("offer",),
+    13: ("month",),
+    14: ("device", "count"),
+    15: ("number",),
+    16: ("account",),
+    17: ("account", "choice"),
+    18: ("use",),
+    19: ("device",),
+    20: (),
+    21: ("use", "used"),
+    22: (),
+    23: ("device", "month"),
 }
 
 RANGES = {
@@ -28,6 +40,7 @@ RANGES = {
     "count": (1, 1000000000),
     "offer": (1, 1000000000),
     "use": (1, 1000000),
+    "used": (0, 1000000000),
 }
 
 

@@ -1,5 +1,7 @@
 """What one registry keeps."""
 
+from origincert.limits import ANY_TECHNIQUE
+
 
 class Device:
     def __init__(self, owner, technique):
@@ -49,3 +51,13 @@ def has_device(book, number):
 
 def device_at(book, number):
     return book.devices[number - 1]
+
+
+def technique_of(book, run):
+    return device_at(book, run.device).technique
+
+
+def of_technique(book, runs, choice):
+    if choice == ANY_TECHNIQUE:
+        return runs
+    return [run for run in runs if technique_of(book, run) == choice]

@@ -1,4 +1,4 @@
-"""How much of everything one registry can hold."""
+"""How much of everything one registry can hold, and what else is fixed once for all."""
 
 MOST_ACCOUNTS = 32
 MOST_DEVICES = 16
@@ -8,4 +8,5 @@ MOST_NUMBERS = 1000000000
 MOST_OFFERS = 32
 MOST_OFFERS_MADE = 1000000000
 UNITS_EACH = 1000
+TECHNIQUES = 10
 ANY_TECHNIQUE = -1

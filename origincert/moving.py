@@ -1,10 +1,10 @@
-"""The calls that change the state of numbers given: move, moveSome, cancel, cancelSome, offer, accept."""
+"""The calls that pass numbers on or use them: move, moveSome, cancel, cancelSome, offer, accept, decline."""
 
-from origincert.book import Offer, device_at, has_account
-from origincert.codes import ACCEPTED, FULL, NO_ACCOUNT, NO_OFFER, NOT_LIVE, TOO_FEW
-from origincert.limits import ANY_TECHNIQUE, MOST_OFFERS, MOST_OFFERS_MADE, MOST_RUNS
+from origincert.book import Offer, has_account, of_technique
+from origincert.codes import ACCEPTED, FULL, NO_ACCOUNT, NO_OFFER, TOO_FEW, WRONG_NUMBER
+from origincert.limits import MOST_OFFERS, MOST_OFFERS_MADE, MOST_RUNS
 from origincert.runs import all_live, cancelled_by, earliest_parts, live_on, numbers_in, offered_by, parts_between
-from origincert.runs import restated
+from origincert.runs import restated, runs_live_on
 
 
 def restate(book, parts, status):
@@ -18,19 +18,10 @@ def restate(book, parts, status):
 
 def restate_stretch(book, account, first, last, status):
     if not all_live(book.runs, first, last, account):
-        return [NOT_LIVE]
+        return [WRONG_NUMBER]
     if not restate(book, parts_between(book.runs, first, last), status):
         return [FULL]
     return [ACCEPTED]
-
-
-def has_technique(book, run, choice):
-    return choice == ANY_TECHNIQUE or device_at(book, run.device).technique == choice
-
-
-def runs_to_choose(book, account, choice):
-    live = [run for run in book.runs if run.status == live_on(account)]
-    return [run for run in live if has_technique(book, run, choice)]
 
 
 def with_pairs(parts):
@@ -41,7 +32,7 @@ def with_pairs(parts):
 
 
 def restate_some(book, account, choice, count, status):
-    runs = runs_to_choose(book, account, choice)
+    runs = of_technique(book, runs_live_on(book.runs, account), choice)
     if numbers_in(runs) < count:
         return [TOO_FEW]
     parts = earliest_parts(runs, count)
@@ -78,7 +69,7 @@ def make_offer(book, source, to, first, last):
     if not has_account(book, source) or not has_account(book, to):
         return [NO_ACCOUNT]
     if not all_live(book.runs, first, last, source):
-        return [NOT_LIVE]
+        return [WRONG_NUMBER]
     if len(book.offers) >= MOST_OFFERS or book.offers_made >= MOST_OFFERS_MADE:
         return [FULL]
     number = book.offers_made + 1
@@ -89,10 +80,20 @@ def make_offer(book, source, to, first, last):
     return [ACCEPTED, number]
 
 
+def end_offer(book, number, account):
+    offer = book.offers.pop(number)
+    # A run never reaches beyond an offer's first and last number, so the runs can only become fewer.
+    restate(book, parts_between(book.runs, offer.first, offer.last), live_on(account))
+    return [ACCEPTED]
+
+
 def accept(book, number):
     if number not in book.offers:
         return [NO_OFFER]
-    offer = book.offers.pop(number)
-    # A run never reaches beyond an offer's first and last number, so the runs can only become fewer.
-    restate(book, parts_between(book.runs, offer.first, offer.last), live_on(offer.to))
-    return [ACCEPTED]
+    return end_offer(book, number, book.offers[number].to)
+
+
+def decline(book, number):
+    if number not in book.offers:
+        return [NO_OFFER]
+    return end_offer(book, number, book.offers[number].source)

@@ -7,6 +7,8 @@ of number and has every number given, each once.
 LIVE = 1
 OFFERED = 2
 CANCELLED = 3
+EXPIRED = 4
+WITHDRAWN = 5
 
 
 class Run:
@@ -37,6 +39,38 @@ def offered_by(account, offer):
 
 def cancelled_by(account, use):
     return (CANCELLED, account, use)
+
+
+def expired_on(account):
+    return (EXPIRED, account, 0)
+
+
+def withdrawn_from(account):
+    return (WITHDRAWN, account, 0)
+
+
+def state_of(run):
+    return run.status[0]
+
+
+def account_of(run):
+    return run.status[1]
+
+
+def runs_in_state(runs, state):
+    return [run for run in runs if state_of(run) == state]
+
+
+def runs_live_on(runs, account):
+    return [run for run in runs if run.status == live_on(account)]
+
+
+def runs_offered_by(runs, account):
+    return [run for run in runs_in_state(runs, OFFERED) if account_of(run) == account]
+
+
+def runs_cancelled_for(runs, use):
+    return [run for run in runs_in_state(runs, CANCELLED) if run.status[2] == use]
 
 
 def numbers_given(runs):
@@ -114,4 +148,16 @@ def earliest_parts(runs, count):
             last = min(run.last, run.first + left - 1)
             parts.append(Part(run, run.first, last))
             left -= last - run.first + 1
+    return parts
+
+
+def greatest_parts(runs, count):
+    """The greatest count numbers of the runs, from the greatest run down."""
+    parts = []
+    left = count
+    for run in reversed(runs):
+        if left > 0:
+            first = max(run.first, run.last - left + 1)
+            parts.append(Part(run, first, run.last))
+            left -= run.last - first + 1
     return parts

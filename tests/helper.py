@@ -7,6 +7,8 @@ from origincert.registry import answer_call, answers
 
 OPEN, ACCOUNT, DEVICE, PASS, METER, ISSUE = 0, 1, 2, 3, 4, 5
 MOVE, MOVE_SOME, CANCEL, CANCEL_SOME, OFFER, ACCEPT = 6, 7, 8, 9, 10, 11
+DECLINE, TICK, WITHDRAW = 12, 13, 14
+WHERE, HOLDING, TALLY, STATEMENT, INFO, SUMS, DISCLOSE, OFFERS, TOTAL = 15, 16, 17, 18, 19, 20, 21, 22, 23
 ANY = -1
 BILLION = 10 ** 9
 
@@ -59,14 +61,30 @@ def new_book(accounts=3, techniques=(0,), life=12, window=3, now=0):
         ask(book, ACCOUNT)
     for technique in techniques:
         ask(book, DEVICE, 1, technique)
-    # Set here, as months don't pass by any call yet.
-    book.now = now
+    if now > 0:
+        assert ask(book, TICK, now) == [0, 0]
     return book
 
 
 def live(first, last, account, device=1, month=0):
     """A run as runs_of tells it."""
     return (first, last, device, month, 1, account, 0)
+
+
+def offered(first, last, account, offer, device=1, month=0):
+    return (first, last, device, month, 2, account, offer)
+
+
+def cancelled(first, last, account, use, device=1, month=0):
+    return (first, last, device, month, 3, account, use)
+
+
+def expired(first, last, account, device=1, month=0):
+    return (first, last, device, month, 4, account, 0)
+
+
+def withdrawn(first, last, account, device=1, month=0):
+    return (first, last, device, month, 5, account, 0)
 
 
 def give(book, device, month, count):
@@ -94,6 +112,10 @@ def checkered_book(runs, **settings):
 class CallCase(unittest.TestCase):
     def refused(self, code, book, *call):
         """The call answers this code alone, and changes nothing."""
+        self.asked([code], book, *call)
+
+    def asked(self, answer, book, *call):
+        """The call answers this, and changes nothing."""
         before = kept(book)
-        self.assertEqual(ask(book, *call), [code])
+        self.assertEqual(ask(book, *call), answer)
         self.assertEqual(kept(book), before)

@@ -3,19 +3,47 @@ import io
 import unittest
 
 from origincert.registry import answers
-from tests.helper import (ACCEPT, ACCOUNT, ANY, CANCEL, CANCEL_SOME, DEVICE, ISSUE, METER, MOVE, MOVE_SOME, OFFER,
-                          OPEN, PASS, ask_all, flat)
+from tests.helper import (ACCEPT, ACCOUNT, ANY, CANCEL, CANCEL_SOME, DECLINE, DEVICE, DISCLOSE, HOLDING, INFO, ISSUE,
+                          METER, MOVE, MOVE_SOME, OFFER, OFFERS, OPEN, PASS, STATEMENT, SUMS, TALLY, TICK, TOTAL,
+                          WHERE, WITHDRAW, ask_all, flat)
 
-EXAMPLE = flat([
-    (ACCOUNT,), (OPEN, 12, 3), (ACCOUNT,), (ACCOUNT,), (DEVICE, 1, 4), (METER, 1, 0, 9500), (ISSUE, 1, 0),
-    (MOVE, 1, 2, 2, 3), (MOVE_SOME, 1, 2, ANY, 3), (CANCEL, 2, 3, 3, 7), (CANCEL_SOME, 2, 4, 3, 8),
-    (OFFER, 1, 2, 7, 8), (ACCEPT, 1), (ACCEPT, 1), (PASS, 1, 2), (MOVE, 0, 2, 2, 3),
-])
-EXAMPLE_ANSWERS = [
-    1, -2, 1, 0, 2, 0, 1, 2, 0, 2, 2, 0, 1, 2, 0, 9500, 3, 0, 9, 1,
-    1, 0, 6, 0, 2, 1, 1, 4, 5, 1, 0, 6, 0, 2, 1, 2, 4, 4,
-    2, 0, 1, 1, 0, 1, -10, 1, 0, 1, -1,
+# All 24 calls, each with its answer.
+TOLD = [
+    ((SUMS,), [-2]),
+    ((OPEN, 12, 3), [0]),
+    ((ACCOUNT,), [0, 1]),
+    ((ACCOUNT,), [0, 2]),
+    ((DEVICE, 1, 4), [0, 1]),
+    ((METER, 1, 0, 9500), [0, 9500]),
+    ((ISSUE, 1, 0), [0, 9, 1]),
+    ((MOVE, 1, 2, 2, 3), [0]),
+    ((MOVE_SOME, 1, 2, ANY, 3), [0, 2, 1, 1, 4, 5]),
+    ((CANCEL, 2, 3, 3, 7), [0]),
+    ((CANCEL_SOME, 2, 4, 3, 8), [0, 2, 1, 2, 4, 4]),
+    ((OFFER, 1, 2, 7, 8), [0, 1]),
+    ((ACCEPT, 1), [0]),
+    ((ACCEPT, 1), [-10]),
+    ((PASS, 1, 2), [0]),
+    ((MOVE, 0, 2, 2, 3), [-1]),
+    ((OFFER, 2, 1, 8, 8), [0, 2]),
+    ((OFFERS,), [0, 1, 2, 2, 1, 8, 8]),
+    ((TALLY, 2, 4), [0, 2, 1]),
+    ((DECLINE, 2), [0]),
+    ((METER, 1, 0, 7000), [0, -2000]),
+    ((WITHDRAW, 1, 3), [-11]),
+    ((WITHDRAW, 1, 2), [0, 1, 7, 8]),
+    ((INFO, 1), [0, 2, 4, 9, 2, 0]),
+    ((WHERE, 8), [0, 5, 2, 0, 1, 0]),
+    ((HOLDING, 2), [0, 1, 5, 5, 1, 0]),
+    ((STATEMENT, 8), [0, 2, 1, 2, 2, 1, 0, 4, 4, 2, 1, 0]),
+    ((TOTAL, 1, 0), [0, 7000]),
+    ((DISCLOSE, 8, 4), [0, 0, 0, 0, 0, 10000, 0, 0, 0, 0, 0, 0]),
+    ((TICK, 12), [0, 3]),
+    ((TICK, 12001), [-1]),
+    ((SUMS,), [0, 12, 9, 0, 0, 4, 3, 2, 7]),
 ]
+EXAMPLE = flat([call for call, answer in TOLD])
+EXAMPLE_ANSWERS = flat([[len(answer)] + answer for call, answer in TOLD])
 
 
 class Unchangeable(list):
@@ -67,6 +95,35 @@ class InterfaceTest(unittest.TestCase):
         self.assertEqual(len(rows), 400)
         self.assertEqual(rows[1:33], [[0, number] for number in range(1, 33)])
         self.assertEqual(rows[33:], [[-4]] * 367)
+
+    def test_256_runs(self):
+        """Every second number is moved, until there are 255 runs, the last of them 255 to 600."""
+        moves = [((MOVE, 1, 2, number, number), [0]) for number in range(2, 256, 2)]
+        told = moves + [
+            ((SUMS,), [0, 0, 600, 600, 0, 0, 0, 0, 255]),
+            ((MOVE, 1, 2, 256, 256), [-4]),
+            ((MOVE, 1, 2, 600, 600), [0]),
+            ((SUMS,), [0, 0, 600, 600, 0, 0, 0, 0, 256]),
+            ((MOVE, 1, 2, 300, 300), [-4]),
+            ((CANCEL, 1, 300, 300, 1), [-4]),
+            ((OFFER, 1, 2, 300, 300), [-4]),
+            ((CANCEL_SOME, 1, ANY, 128, 1), [-4]),
+            ((METER, 1, 0, 700000), [0, 100000]),
+            ((ISSUE, 1, 0), [-4]),
+            ((MOVE, 2, 1, 600, 600), [0]),
+            ((ISSUE, 1, 0), [0, 100, 601]),
+            ((SUMS,), [0, 0, 700, 700, 0, 0, 0, 0, 255]),
+            ((METER, 1, 0, 600500), [0, -99500]),
+            ((WITHDRAW, 1, 1), [0, 1, 700, 700]),
+            ((OFFER, 1, 2, 300, 300), [-4]),
+            ((WITHDRAW, 1, 1), [0, 1, 699, 699]),
+            ((SUMS,), [0, 0, 700, 698, 0, 0, 0, 2, 256]),
+            ((TICK, 12), [0, 698]),
+            ((SUMS,), [0, 12, 700, 0, 0, 0, 698, 2, 256]),
+        ]
+        rows = ask_all((OPEN, 12, 3), (ACCOUNT,), (ACCOUNT,), (DEVICE, 1, 0), (METER, 1, 0, 600000), (ISSUE, 1, 0),
+                       *[call for call, answer in told])
+        self.assertEqual(rows[6:], [answer for call, answer in told])
 
 
 if __name__ == "__main__":

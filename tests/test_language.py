@@ -91,6 +91,7 @@ class LanguageTest(unittest.TestCase):
         for name, tree in trees():
             rows = [node for node in ast.walk(tree) if isinstance(node, ast.ImportFrom)]
             self.assertTrue(all(node in tree.body and node.level == 0 for node in rows))
+            self.assertTrue(all(node.module.startswith("origincert.") for node in rows), name)
             drawn[name] = {node.module.removeprefix("origincert.") + ".py" for node in rows}
         self.assertEqual(drawn["__init__.py"], set())
         while drawn:

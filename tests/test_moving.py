@@ -1,8 +1,9 @@
 import unittest
 
 from origincert.runs import Run, live_on
-from tests.helper import (ACCEPT, ACCOUNT, ANY, BILLION, CANCEL, CANCEL_SOME, DEVICE, ISSUE, METER, MOVE, MOVE_SOME,
-                          OFFER, OPEN, CallCase, ask, ask_all, checkered_book, give, kept, live, new_book, runs_of)
+from tests.helper import (ACCEPT, ACCOUNT, ANY, BILLION, CANCEL, CANCEL_SOME, DECLINE, DEVICE, ISSUE, METER, MOVE,
+                          MOVE_SOME, OFFER, OPEN, TICK, WITHDRAW, CallCase, ask, ask_all, cancelled, checkered_book,
+                          give, kept, live, new_book, offered, runs_of)
 
 
 class StretchCase(CallCase):
@@ -23,13 +24,21 @@ class StretchCase(CallCase):
         self.refused(-7, new_book(), *call(1, 1, 1))
 
     def spent_refusals(self, call):
-        """What's offered or cancelled is no longer there to be moved, cancelled or offered."""
-        book = self.book_of_ten()
-        ask(book, OFFER, 1, 1, 2, 2)
-        ask(book, CANCEL, 1, 4, 4, 1)
-        for number in (2, 4):
+        """What's offered, cancelled, expired or withdrawn is no longer there to be moved, cancelled or offered."""
+        book = new_book(techniques=(0, 1))
+        give(book, 1, 0, 3)
+        ask(book, MOVE, 1, 2, 2, 2)
+        self.assertEqual(ask(book, TICK, 12), [0, 3])
+        give(book, 2, 12, 10)
+        book.devices[1].balance = -1
+        self.assertEqual(ask(book, WITHDRAW, 2, 1), [0, 1, 13, 13])
+        ask(book, OFFER, 1, 1, 5, 5)
+        ask(book, CANCEL, 1, 7, 7, 1)
+        self.refused(-7, book, *call(2, 2, 2))
+        self.refused(-7, book, *call(1, 12, 13))
+        for number in (1, 3, 5, 7, 13):
             self.refused(-7, book, *call(1, number, number))
-            self.refused(-7, book, *call(1, 1, number))
+            self.refused(-7, book, *call(1, 4, number))
 
     def stretch_at_256_runs(self, call):
         """At 256 runs a cut is refused; what makes no further run is not looked at askance."""
@@ -429,6 +438,79 @@ class AcceptTest(StretchCase):
                        (OFFER, 1, 2, 1, 1), (ACCEPT, 1), (OFFER, 2, 1, 1, 1), (ACCEPT, 1), (ACCEPT, 2), (ACCEPT, 2),
                        (MOVE, 1, 2, 1, 3))
         self.assertEqual(rows[6:], [[0, 1], [0], [0, 2], [-10], [0], [-10], [0]])
+
+
+class DeclineTest(StretchCase):
+    def test_numbers_go_back_to_who_offered_them(self):
+        book = self.book_of_ten()
+        before = runs_of(book)
+        ask(book, OFFER, 1, 2, 3, 6)
+        self.assertEqual(ask(book, DECLINE, 1), [0])
+        self.assertEqual(runs_of(book), before)
+        self.assertEqual(kept(book)[4:], ([], 1))
+
+    def test_only_this_offer_goes(self):
+        book = self.book_of_ten()
+        ask(book, OFFER, 1, 2, 3, 3)
+        ask(book, OFFER, 1, 3, 4, 5)
+        ask(book, OFFER, 1, 2, 6, 7)
+        self.assertEqual(ask(book, DECLINE, 2), [0])
+        self.assertEqual(runs_of(book), [live(1, 2, 1), offered(3, 3, 1, 1), live(4, 5, 1), offered(6, 7, 1, 3),
+                                         live(8, 10, 1)])
+        self.assertEqual(kept(book)[4:], ([(1, 1, 2, 3, 3), (3, 1, 2, 6, 7)], 3))
+
+    def test_over_several_runs(self):
+        book = new_book(techniques=(0, 1))
+        give(book, 1, 0, 2)
+        give(book, 2, 0, 2)
+        ask(book, MOVE, 1, 2, 1, 4)
+        ask(book, OFFER, 2, 3, 2, 3)
+        self.assertEqual(runs_of(book), [live(1, 1, 2), offered(2, 2, 2, 1), offered(3, 3, 2, 1, 2), live(4, 4, 2, 2)])
+        self.assertEqual(ask(book, DECLINE, 1), [0])
+        self.assertEqual(runs_of(book), [live(1, 2, 2), live(3, 4, 2, 2)])
+
+    def test_an_owner_changed_since_does_not_matter(self):
+        book = self.book_of_ten()
+        ask(book, CANCEL, 1, 2, 2, 9)
+        ask(book, OFFER, 1, 2, 1, 1)
+        book.devices[0].owner = 3
+        self.assertEqual(ask(book, DECLINE, 1), [0])
+        self.assertEqual(runs_of(book), [live(1, 1, 1), cancelled(2, 2, 1, 9), live(3, 10, 1)])
+
+    def test_at_256_runs(self):
+        book = checkered_book(254)
+        ask(book, OFFER, 2, 3, 300, 310)
+        self.assertEqual(len(book.runs), 256)
+        self.assertEqual(ask(book, DECLINE, 1), [0])
+        self.assertEqual(len(book.runs), 254)
+
+    def test_no_such_offer(self):
+        book = self.book_of_ten()
+        self.refused(-10, book, DECLINE, 1)
+        self.refused(-10, book, DECLINE, BILLION)
+        ask(book, OFFER, 1, 2, 1, 1)
+        ask(book, OFFER, 1, 2, 2, 2)
+        ask(book, OFFER, 1, 2, 3, 3)
+        self.refused(-10, book, DECLINE, 4)
+        ask(book, DECLINE, 1)
+        ask(book, ACCEPT, 2)
+        for gone in (1, 2):
+            self.refused(-10, book, DECLINE, gone)
+            self.refused(-10, book, ACCEPT, gone)
+
+    def test_makes_room_for_another_offer(self):
+        book = new_book()
+        give(book, 1, 0, 40)
+        for number in range(1, 33):
+            ask(book, OFFER, 1, 2, number, number)
+        self.refused(-4, book, OFFER, 1, 2, 33, 33)
+        self.assertEqual(ask(book, DECLINE, 32), [0])
+        self.assertEqual(ask(book, OFFER, 1, 2, 32, 32), [0, 33])
+
+    def test_through_the_interface(self):
+        rows = ask_all((OPEN, 12, 3), (ACCOUNT,), (ACCOUNT,), (DEVICE, 1, 0), (METER, 1, 0, 3000), (ISSUE, 1, 0),
+                       (OFFER, 1, 2, 1, 2), (DECLINE, 1), (DECLINE, 1), (ACCEPT, 1), (MOVE, 1, 2, 1, 3))
+        self.assertEqual(rows[6:], [[0, 1], [0], [-10], [-10], [0]])
 
 
 if __name__ == "__main__":

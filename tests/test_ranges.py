@@ -21,6 +21,18 @@ RANGES = {
     9: [ACCOUNT, CHOICE, NUMBER, USE],
     10: [ACCOUNT, ACCOUNT, NUMBER, NUMBER],
     11: [NUMBER],
+    12: [NUMBER],
+    13: [MONTH],
+    14: [DEVICE, NUMBER],
+    15: [NUMBER],
+    16: [ACCOUNT],
+    17: [ACCOUNT, CHOICE],
+    18: [USE],
+    19: [DEVICE],
+    20: [],
+    21: [USE, (0, 10 ** 9)],
+    22: [],
+    23: [DEVICE, MONTH],
 }
 
 
